@@ -1,0 +1,1 @@
+"""Pactroom: pacts over several houses, each with its own book."""
