@@ -167,6 +167,12 @@ class WalkedLead(Lead):
             self.signed = True
             sheet.row(("over", self.name))
 
+    def come_up(self, outcome, hands):
+        # As it was when it was ended, with nothing sent: its letters, or its over row, go at turns.
+        self.hands = list(hands)
+        self.named = outcome
+        self.closed = True
+
     # Each of these two tells whether something was left, whose letter then went.
 
     def walk_rest(self, sheet):

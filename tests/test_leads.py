@@ -590,6 +590,45 @@ class TurnTest(unittest.TestCase):
         self.assertEqual(desk.end("broken"), sent((0, "undo", (0, "take 0 0"))))
 
 
+class ComeUpTest(unittest.TestCase):
+    """A walked lead that is there again behind a fall, as it was when it was ended."""
+
+    TEXT = "walked plus 1; take 0 0; add 2 0 1; plus 1; give 0 0; plus 2; add 2 1 5; plus 1"
+
+    def desk(self, outcome, hands, text=TEXT):
+        desk = Desk(text)
+        self.assertIs(desk.lead.come_up(outcome, hands), None)
+        return desk
+
+    def test_done(self):
+        desk = self.desk("done", (1, 50, 50, 51))
+        self.assertEqual([desk.turn() for k in range(6)], [sent((0, "walk", (4, 51, "give 0 0")))] * 6)
+        for stray in (desk.came("went", 0, 1, 9), desk.came("went", 2, 6, 9), desk.came("undid", 2, 2)):
+            self.assertEqual(stray, NOTHING)
+        self.assertEqual(desk.came("went", 0, 4, 51), sent((2, "walk", (6, 53, "add 2 1 5"))))
+        self.assertEqual(desk.came("went", 2, 6, 53), OVER)
+        self.assertEqual([desk.turn(), desk.go()], [NOTHING] * 2)
+
+    def test_broken(self):
+        desk = self.desk("broken", ())
+        self.assertEqual([desk.turn() for k in range(6)], [sent((2, "undo", (2, "add 2 0 1")))] * 6)
+        for stray in (desk.came("undid", 0, 1), desk.came("went", 0, 1, 9), desk.came("went", 2, 2, 9)):
+            self.assertEqual(stray, NOTHING)
+        self.assertEqual(desk.came("undid", 2, 2), sent((0, "undo", (1, "take 0 0"))))
+        self.assertEqual(desk.came("undid", 0, 1), OVER)
+        self.assertEqual([desk.turn(), desk.go()], [NOTHING] * 2)
+
+    def test_nothing_left(self):
+        for text, outcome, hands in (("walked plus 1", "done", (1,)), ("walked plus 1; give 0 0", "broken", ())):
+            desk = self.desk(outcome, hands, text)
+            self.assertEqual([desk.turn(), desk.turn()], [OVER, NOTHING])
+
+    def test_it_is_ended_already(self):
+        desk = self.desk("done", (1, 50, 50, 51))
+        self.assertEqual([desk.end("broken"), desk.end("done")], [NOTHING] * 2)
+        self.assertEqual(desk.turn(), sent((0, "walk", (4, 51, "give 0 0"))))
+
+
 class AskersOwnTest(unittest.TestCase):
     def test_the_pact_handed_in_is_not_changed_and_not_kept(self):
         for manner, word in (("held", "work"), ("walked", "walk")):
