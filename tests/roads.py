@@ -42,20 +42,6 @@ class Roads:
         self.houses[home].fall()
         return told
 
-    def calm(self):
-        """Lets all fallen houses rise, then rounds till none sends a letter; tells how many there were."""
-        for home, house in enumerate(self.houses):
-            if house.is_fallen():
-                self.do(("rise", home))
-        for count in range(1, 100):
-            start = len(self.sent)
-            for home in range(len(self.houses)):
-                self.do(("turn", home))
-            if len(self.sent) == start:
-                return count
-            self.all_come(start)
-        raise AssertionError("no calm")
-
     def all_come(self, start):
         at = start
         while at < len(self.sent):

@@ -1,7 +1,9 @@
+"""Houses behind drawn histories: what their books tell, and the rings of pacts that wait."""
+
 import random
 import unittest
 
-from model import Model, do_step, house_of
+from model import Model
 from roads import Draw, Roads, draw_cells, draw_text
 
 
@@ -15,156 +17,7 @@ def history(seed):
     return roads
 
 
-def texts_of(story):
-    return {row[1]: row[2] for home, row in story if row[0] == "begin"}
-
-
-def steps_of(text):
-    return text.partition(" ")[2].split("; ")
-
-
-class Paper:
-    """Plays the entries of a story one behind the other, each on what the ones ahead left."""
-
-    def __init__(self, test, cells, story):
-        self.test = test
-        self.cells = [list(values) for values in cells]
-        self.texts = texts_of(story)
-        self.walks = {p: [] for p in self.texts}
-        self.undone = {p: [] for p in self.texts}
-        for home, row in story:
-            if row[0] == "end" and row[2] == "done" and home == row[1][0] and self.texts[row[1]].startswith("held"):
-                self.pact(row[1], row[3])
-            elif row[0] == "walked":
-                self.step(home, row)
-            elif row[0] == "undone":
-                self.undo(home, row)
-
-    def done(self, text, hand):
-        home = house_of(text)
-        behind, changes = do_step(text, hand, None if home is None else self.cells[home].__getitem__)
-        if text.startswith("need "):
-            self.test.assertGreaterEqual(hand, int(text[5:]))
-        for cell, value in changes.items():
-            self.cells[home][cell] = value
-        return behind, tuple(changes.items())
-
-    def pact(self, p, hands):
-        hand, played = 0, []
-        for text in steps_of(self.texts[p]):
-            hand = self.done(text, hand)[0]
-            played.append(hand)
-        self.test.assertEqual(hands, tuple(played))
-
-    def step(self, home, row):
-        p, i = row[1], row[2]
-        steps = steps_of(self.texts[p])
-        self.test.assertEqual(self.undone[p], [])
-        at, hand = self.walks[p][-1] if self.walks[p] else (-1, 0)
-        between = steps[at + 1:i]
-        self.test.assertGreater(i, at)
-        self.test.assertEqual([text for text in between if house_of(text) is not None], [])
-        for text in between:
-            hand = self.done(text, hand)[0]
-        self.test.assertEqual(house_of(steps[i]), home)
-        behind, changes = self.done(steps[i], hand)
-        self.test.assertEqual(row[3:], (changes, behind))
-        self.walks[p].append((i, behind))
-
-    def undo(self, home, row):
-        p, i = row[1], row[2]
-        steps = steps_of(self.texts[p])
-        left = [k for k, hand in self.walks[p] if k not in self.undone[p]]
-        self.test.assertEqual(left[-1], i)
-        self.test.assertFalse(any(steps[k].startswith("give ") for k in left))
-        words = steps[i].split(" ")
-        changes = ()
-        if words[0] == "add":
-            changes = ((int(words[2]), self.cells[home][int(words[2])] - int(words[3])),)
-        self.test.assertEqual(row[3], changes)
-        for cell, value in changes:
-            self.cells[home][cell] = value
-        self.undone[p].append(i)
-
-
-class ModelTest(unittest.TestCase):
-    """Each deed of drawn histories beside a second telling of a house."""
-
-    def same(self, roads, other, deed):
-        self.assertEqual(roads.do(deed), other.do(deed))
-        home = deed[2][1] if deed[0] == "falling" else deed[1]
-        house, model = roads.houses[home], other.houses[home]
-        self.assertEqual(house.is_fallen(), model.is_fallen())
-        self.assertEqual(house.rows, model.book)
-        self.assertEqual(house.stand.cells_told(), model.cells())
-        if not house.is_fallen():
-            self.assertEqual((house.works.held(), house.works.waiting()), (model.held(), model.waiting()))
-
-    def test_beside_the_model(self):
-        for seed in range(300):
-            chance = random.Random(seed)
-            cells = draw_cells(chance)
-            roads, other = Roads(cells), Roads(cells, Model)
-            draw = Draw(seed, roads)
-            for k in range(chance.choice((20, 60, 120, 200))):
-                self.same(roads, other, draw.deed())
-
-
-class WholeTest(unittest.TestCase):
-    """What holds of every history, asked of drawn ones."""
-
-    SEEDS = range(500)
-
-    def check_outcomes(self, roads):
-        texts = texts_of(roads.story)
-        known = {}
-        for at, (home, row) in enumerate(roads.story):
-            if row[0] != "end":
-                continue
-            self.assertEqual(known.setdefault(row[1], row[2]), row[2])
-            if row[2] == "done" and texts[row[1]].startswith("held"):
-                houses = {house_of(text) for text in steps_of(texts[row[1]])} - {None}
-                ready = {there for there, one in roads.story[:at] if one[:2] == ("ready", row[1])}
-                self.assertEqual(ready, houses)
-        for home in range(len(roads.houses)):
-            rows = [row[:3] for there, row in roads.story if there == home and row[0] != "void"]
-            # Nothing is written twice at one house: no begin, work, ready, end, walked, undone or over row.
-            self.assertEqual(len(rows), len(set(rows)))
-
-    def test_one_outcome_and_one_behind_the_other(self):
-        for seed in self.SEEDS:
-            roads = history(seed)
-            self.check_outcomes(roads)
-            Paper(self, roads.first, roads.story)
-
-    def test_calm(self):
-        for seed in self.SEEDS:
-            roads = history(seed)
-            self.assertLessEqual(roads.calm(), 6)
-            self.check_outcomes(roads)
-            self.check_calm(roads)
-            paper = Paper(self, roads.first, roads.story)
-            self.assertEqual([house.stand.cells_told() for house in roads.houses], paper.cells)
-
-    def check_calm(self, roads):
-        texts = texts_of(roads.story)
-        for home, house in enumerate(roads.houses):
-            self.assertEqual((house.works.held(), house.works.waiting()), ([], []))
-            for row in house.rows:
-                if row[0] in ("begin", "work", "ready"):
-                    self.assertIsNotNone(house.stand.outcome(row[1]))
-        for p in texts:
-            if texts[p].startswith("walked"):
-                leader = roads.houses[p[0]]
-                self.assertIn(("over", p), leader.rows)
-                words = {row[0] for home, row in roads.story if row[1] == p}
-                if leader.stand.outcome(p) == "done":
-                    self.assertFalse(words & {"void", "undone"})
-                else:
-                    walked = [row[2] for home, row in roads.story if row[:2] == ("walked", p)]
-                    undone = [row[2] for home, row in roads.story if row[:2] == ("undone", p)]
-                    self.assertEqual(undone, walked[::-1])
-
+class BookTest(unittest.TestCase):
     def test_a_house_is_told_by_its_book(self):
         """A house that rises from the same book goes on as one that fell, whatever it knew ahead of the fall."""
         for seed in range(100):
